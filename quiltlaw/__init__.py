@@ -1,0 +1,1 @@
+"""Quiltlaw: which pictures a grammar makes, and at what cost."""
