@@ -39,6 +39,15 @@ WORDS = set(
 UNUSED = set(
     "register mro elements open input version_info with_traceback add_note format"
     " format_map".split())
+OWN_KINDS = (str, int, list, dict, set, bytes, tuple)
+MAY_BE_METHODS = METHODS | {"add", "discard"}
+MAY_BE_VALUES = set("count index title find get join lower upper split strip copy add".split())
+# Where what is not kept may be walked on the spot: the first thing in one of these.
+WALKERS = set("list tuple dict sorted sum any all enumerate zip min max".split())
+WALKED = set("zip enumerate reversed range".split())
+WALKED_METHODS = set("items keys values".split())
+KEYWORDS = {"sorted": {"key", "reverse"}, "min": {"key", "default"}, "max": {"key", "default"},
+            "sum": {"start"}, "enumerate": {"start"}, "zip": {"strict"}}
 
 
 def bound_names(tree):
@@ -56,6 +65,21 @@ def bound_names(tree):
         elif isinstance(node, ast.Name) and isinstance(node.ctx, ast.Store):
             found.append(node.id)
     return found
+
+
+def called_name(node):
+    """The plain name that a call calls, None for any other node."""
+    return node.func.id if isinstance(node, ast.Call) and isinstance(node.func, ast.Name) else None
+
+
+def called_method(node):
+    """The method that a call calls, None for any other node."""
+    return node.func.attr if isinstance(node, ast.Call) and isinstance(node.func, ast.Attribute) else None
+
+
+def is_walked(node):
+    """Whether this is a value that is walked on the spot, not kept."""
+    return called_name(node) in WALKED or called_method(node) in WALKED_METHODS
 
 
 class FormTest(unittest.TestCase):
@@ -178,6 +202,82 @@ class FormTest(unittest.TestCase):
         for place, node in self.nodes(ast.Call):
             if isinstance(node.func, ast.Attribute):
                 self.assertIn(node.func.attr, METHODS | self.own_methods, place)
+
+    def test_own_methods_and_values(self):
+        """L18, L26."""
+        own_values = {node.attr for _, node in self.nodes(ast.Attribute) if isinstance(node.ctx, ast.Store)}
+        self.assertFalse(own_values & self.own_methods)
+        for word in own_values | self.own_methods - DUNDERS:
+            allowed = MAY_BE_VALUES if word in own_values else MAY_BE_METHODS
+            if any(hasattr(kind, word) for kind in OWN_KINDS):
+                self.assertIn(word, allowed)
+        for place, node in self.nodes(ast.ClassDef):
+            methods = [member.name for member in node.body if isinstance(member, ast.FunctionDef)]
+            self.assertEqual(len(methods), len(set(methods)), place)
+
+    def test_locals_are_not_called_like_classes_or_imports(self):
+        """L15."""
+        for name, tree in self.trees.items():
+            tops = {alias.name for node in tree.body if isinstance(node, ast.ImportFrom) for alias in node.names}
+            tops |= {node.name for node in tree.body if isinstance(node, ast.ClassDef)}
+            for node in ast.walk(tree):
+                if isinstance(node, (ast.FunctionDef, ast.Lambda)):
+                    within = bound_names(node)
+                    if isinstance(node, ast.FunctionDef):
+                        within.remove(node.name)
+                    self.assertFalse(tops & set(within), f"{name}:{node.lineno}")
+
+    def test_texts(self):
+        """L7, L27."""
+        for place, node in self.nodes(ast.Constant, ast.FormattedValue):
+            if isinstance(node, ast.FormattedValue):
+                self.assertIsInstance(node.value, ast.Name, place)
+                self.assertIsNone(node.format_spec, place)
+            elif isinstance(node.value, str):
+                self.assertNotIn("%", node.value, place)
+
+    def test_walked_at_once(self):
+        """L23."""
+        on_the_spot = set()
+        for _, node in self.nodes(ast.For, ast.comprehension, ast.Call):
+            if isinstance(node, (ast.For, ast.comprehension)):
+                on_the_spot.add(node.iter)
+            elif called_name(node) in WALKERS:
+                on_the_spot.update(node.args if called_name(node) == "zip" else node.args[:1])
+            elif called_method(node) == "join" and isinstance(node.func.value, ast.Constant):
+                on_the_spot.update(node.args)
+        for place, node in self.nodes(ast.Call):
+            if is_walked(node):
+                self.assertIn(node, on_the_spot, place)
+
+    def test_sets_are_not_kept(self):
+        """L24."""
+        on_the_spot = set()
+        for _, node in self.nodes(ast.Compare, ast.Call):
+            if isinstance(node, ast.Compare):
+                on_the_spot.update([node.left, *node.comparators])
+            elif called_name(node) in ("sorted", "len") and not node.keywords:
+                on_the_spot.update(node.args)
+        for place, node in self.nodes(ast.Call, ast.Set):
+            if called_name(node) in ("set", "frozenset") or isinstance(node, ast.Set):
+                self.assertIn(node, on_the_spot, place)
+
+    def test_keywords(self):
+        """L22."""
+        for place, node in self.nodes(ast.Call):
+            for keyword in node.keywords:
+                if called_name(node) in BUILTINS:
+                    self.assertIn(keyword.arg, KEYWORDS.get(called_name(node), ()), place)
+                self.assertNotIn(called_method(node), METHODS, place)
+
+    def test_errors_that_are_taken(self):
+        """L19."""
+        for place, node in self.nodes(ast.ExceptHandler):
+            taken = node.type.elts if isinstance(node.type, ast.Tuple) else [node.type]
+            for error in taken:
+                self.assertNotIn(error.id, ("Exception", "TypeError"), place)
+        for place, node in self.nodes(ast.Raise):
+            self.assertIsInstance(node.exc, ast.Call, place)
 
     def test_is_beside_plain_values_alone(self):
         """L20."""

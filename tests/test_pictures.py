@@ -5,19 +5,14 @@ import inspect
 import itertools
 import unittest
 
+from slow import LETTERS, sample
+
 from quiltlaw import pictures
 from quiltlaw.errors import NoFit, NoPicture
 from quiltlaw.pictures import (above, beside, checked, cut_out, parted, read_picture,
                                shown, size_of, windows_of)
 
-LETTERS = "abcdefghijklmnopqrstuvwxyz"
 SIZES = [(r, c) for r in range(1, 7) for c in range(1, 7)]
-
-
-def sample(rows, columns, start=0):
-    """A picture of this size whose cells differ as far as the letters reach."""
-    return ["".join(LETTERS[(start + i * columns + j) % 26] for j in range(columns))
-            for i in range(rows)]
 
 
 class InterfaceTest(unittest.TestCase):

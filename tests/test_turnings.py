@@ -5,6 +5,8 @@ import inspect
 import itertools
 import unittest
 
+from slow import turned_by_cells
+
 from quiltlaw import turnings
 from quiltlaw.pictures import cut_out, parted, size_of, windows_of
 from quiltlaw.turnings import after, back, seen_in, turned
@@ -20,20 +22,6 @@ SAMPLES = [
     ["aab", "bab", "abc", "cca"],
     ["abcdef", "ghijkl", "mnopqr", "stuvwx", "yzabcd", "efghij"],
 ]
-
-
-def quarter_by_cells(picture):
-    """A quarter in the very words of promise 9."""
-    r, c = size_of(picture)
-    return ["".join(picture[r - 1 - j][i] for j in range(r)) for i in range(c)]
-
-
-def turned_by_cells(picture, t):
-    if t >= 4:
-        picture = [row[::-1] for row in picture]
-    for _ in range(t % 4):
-        picture = quarter_by_cells(picture)
-    return picture
 
 
 def seen_by_cells(picture):
