@@ -74,3 +74,12 @@ def numbers_by_name(start, rules):
         for part in rule.parts():
             numbers.setdefault(part, [])
     return numbers
+
+
+def name_asked(grammar, name):
+    """The name that is asked for: the start for None. NoName."""
+    if name is None:
+        return grammar.start
+    # Asked for its refusal alone.
+    grammar.numbers_of(name)
+    return name

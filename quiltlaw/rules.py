@@ -62,6 +62,10 @@ class CellRule(Rule):
         """The same rule anew: a cell looks alike in each turning."""
         return CellRule(self.name, self.cost, self.sign)
 
+    def ways(self, cuts):
+        """For each way to make the picture so, the keys (text, name) of its parts; here none."""
+        return [[]] if cuts.text == self.sign else []
+
     def told(self):
         """The rule written as a text."""
         return self.head() + self.sign
@@ -88,6 +92,10 @@ class BesideRule(Rule):
         """The rule that makes of turned pictures what this one makes, turned by t."""
         return turned_pair(self, True, t)
 
+    def ways(self, cuts):
+        """For each way to make the picture so, by rising place, the keys (text, name) of its parts."""
+        return [[(first, self.one), (second, self.other)] for first, second in cuts.beside_texts]
+
     def told(self):
         """The rule written as a text."""
         return self.head() + self.one + " | " + self.other
@@ -113,6 +121,10 @@ class AboveRule(Rule):
     def turned_whole(self, t):
         """The rule that makes of turned pictures what this one makes, turned by t."""
         return turned_pair(self, False, t)
+
+    def ways(self, cuts):
+        """For each way to make the picture so, by rising place, the keys (text, name) of its parts."""
+        return [[(first, self.one), (second, self.other)] for first, second in cuts.above_texts]
 
     def told(self):
         """The rule written as a text."""
@@ -142,6 +154,10 @@ class TurnRule(Rule):
         """The rule that makes of turned pictures what this one makes, turned by t."""
         # What is handed in is turned already: that is taken back ahead of the rule's own turning.
         return TurnRule(self.name, self.cost, self.part, after(after(back(t), self.turning), t))
+
+    def ways(self, cuts):
+        """For the one way to make the picture so, the key (text, name) of its part."""
+        return [[(cuts.turned_text(back(self.turning)), self.part)]]
 
     def told(self):
         """The rule written as a text."""

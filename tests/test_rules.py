@@ -5,7 +5,7 @@ import inspect
 import itertools
 import unittest
 
-from slow import sample, turned_by_cells
+from slow import put, sample, turned_by_cells
 
 from quiltlaw import rules
 from quiltlaw.errors import NoFit, NoRule, QuiltError
@@ -20,16 +20,6 @@ BEHIND_COST = {CellRule: ("a",), BesideRule: ("A", "B"), AboveRule: ("A", "B"), 
 # Each size within three by three, and the edges of what can be put together.
 SIZES = [(1, 1), (1, 2), (2, 1), (2, 2), (2, 3), (3, 2), (3, 3), (1, 3), (3, 1), (1, 5), (1, 6), (5, 1), (6, 1),
          (3, 4), (4, 3), (6, 6)]
-
-
-def put(rule, one, other):
-    """What a beside or above rule makes of two pictures, None where they don't fit."""
-    if isinstance(rule, BesideRule):
-        if len(one) == len(other) and len(one[0]) + len(other[0]) <= 6:
-            return [one[i] + other[i] for i in range(len(one))]
-    elif len(one[0]) == len(other[0]) and len(one) + len(other) <= 6:
-        return [*one, *other]
-    return None
 
 
 def values_of(rule):
