@@ -1,6 +1,6 @@
 """The first tree: one of the least cost, the same at each asking."""
 
-from quiltlaw.cuts import Cuts, cost_by
+from quiltlaw.cuts import Cuts, coming
 from quiltlaw.errors import TooMany
 from quiltlaw.grammars import name_asked
 from quiltlaw.pictures import shown
@@ -31,11 +31,6 @@ def first_tree(grammar, picture, name=None):
 def first_step(grammar, told, key):
     """The first by which the least cost of a told key comes: (rule's number, keys of its parts)."""
     cuts = Cuts(key[0].split("/"))
-    steps = []
-    for number in grammar.numbers_of(key[1]):
-        rule = grammar.rule(number)
-        for way in rule.ways(cuts):
-            if cost_by(rule, way, told) == told[key]:
-                steps.append((number, way))
+    found = coming(grammar, grammar.numbers_of(key[1]), cuts, told)
     # A told cost comes by some rule, so there is a first one.
-    return steps[0]
+    return [(number, way) for cost, number, way in found if cost == told[key]][0]

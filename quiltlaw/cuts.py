@@ -35,3 +35,18 @@ def cost_by(rule, way, told):
             return None
         cost = cost + told[key]
     return cost
+
+
+def coming(grammar, numbers, cuts, told):
+    """What comes for a picture from a dict of costs by the rules of these numbers, in their order.
+
+    Each is a tuple (cost, the rule's number, the keys of its parts).
+    """
+    found = []
+    for number in numbers:
+        rule = grammar.rule(number)
+        for way in rule.ways(cuts):
+            cost = cost_by(rule, way, told)
+            if cost is not None:
+                found.append((cost, number, way))
+    return found

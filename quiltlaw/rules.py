@@ -66,6 +66,10 @@ class CellRule(Rule):
         """For each way to make the picture so, the keys (text, name) of its parts; here none."""
         return [[]] if cuts.text == self.sign else []
 
+    def part_rows(self, rows, columns, cost):
+        """For each way to a tree of this size and cost, the rows of trees of its parts; here none."""
+        return [[]] if (rows, columns, cost) == (1, 1, self.cost) else []
+
     def told(self):
         """The rule written as a text."""
         return self.head() + self.sign
@@ -96,6 +100,11 @@ class BesideRule(Rule):
         """For each way to make the picture so, by rising place, the keys (text, name) of its parts."""
         return [[(first, self.one), (second, self.other)] for first, second in cuts.beside_texts]
 
+    def part_rows(self, rows, columns, cost):
+        """For each way to a tree of this size and cost, in order, the rows of trees of its parts."""
+        sizes = [((rows, at), (rows, columns - at)) for at in range(1, columns)]
+        return paired_rows(self, sizes, cost - self.cost)
+
     def told(self):
         """The rule written as a text."""
         return self.head() + self.one + " | " + self.other
@@ -125,6 +134,11 @@ class AboveRule(Rule):
     def ways(self, cuts):
         """For each way to make the picture so, by rising place, the keys (text, name) of its parts."""
         return [[(first, self.one), (second, self.other)] for first, second in cuts.above_texts]
+
+    def part_rows(self, rows, columns, cost):
+        """For each way to a tree of this size and cost, in order, the rows of trees of its parts."""
+        sizes = [((at, columns), (rows - at, columns)) for at in range(1, rows)]
+        return paired_rows(self, sizes, cost - self.cost)
 
     def told(self):
         """The rule written as a text."""
@@ -159,6 +173,12 @@ class TurnRule(Rule):
         """For the one way to make the picture so, the key (text, name) of its part."""
         return [[(cuts.turned_text(back(self.turning)), self.part)]]
 
+    def part_rows(self, rows, columns, cost):
+        """For the one way to a tree of this size and cost, the row of trees of its part."""
+        # By one quarter or three, mirrored or not, rows become columns.
+        size = (columns, rows) if self.turning % 2 == 1 else (rows, columns)
+        return [[(self.part,) + size + (cost - self.cost,)]]
+
     def told(self):
         """The rule written as a text."""
         return self.head() + self.part + " turned " + str(self.turning)
@@ -178,3 +198,21 @@ def turned_pair(rule, side_by_side, t):
     if side_by_side:
         return BesideRule(rule.name, rule.cost, one, other)
     return AboveRule(rule.name, rule.cost, one, other)
+
+
+def fewest(size):
+    """The least cost that a tree of a size can have."""
+    # Each cell takes a cell rule, and one rule fewer puts them together, each at 1 or more.
+    return 2 * size[0] * size[1] - 1
+
+
+def paired_rows(rule, sizes, left):
+    """The rows (name, rows, columns, cost) of both parts, for each two sizes and each cost of the first, rising.
+
+    Both parts together cost what is left.
+    """
+    found = []
+    for one, other in sizes:
+        for first in range(fewest(one), left - fewest(other) + 1):
+            found.append([(rule.one,) + one + (first,), (rule.other,) + other + (left - first,)])
+    return found

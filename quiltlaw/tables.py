@@ -1,6 +1,6 @@
 """Tables: the least cost of each picture seen in a picture, by each name."""
 
-from quiltlaw.cuts import Cuts, cost_by
+from quiltlaw.cuts import Cuts, coming
 from quiltlaw.grammars import name_asked
 from quiltlaw.pictures import shown
 from quiltlaw.rules import TurnRule
@@ -29,23 +29,20 @@ def enter_turnings(grammar, picture, told):
     """Enter the least costs of a picture in each of its turnings; their texts are given back."""
     # A turning rule needs no fewer cells, so its turn comes when all eight are put together.
     turning = [rule for rule in grammar.rules() if isinstance(rule, TurnRule)]
-    putting = [rule for rule in grammar.rules() if not isinstance(rule, TurnRule)]
+    putting = [k for k, rule in enumerate(grammar.rules()) if not isinstance(rule, TurnRule)]
     texts = []
     for t in range(TURNINGS):
         cuts = Cuts(turned(picture, t))
-        put_together(putting, cuts, told)
+        put_together(grammar, putting, cuts, told)
         texts.append(cuts.text)
     turn_about(turning, texts, grammar.names(), told)
     return texts
 
 
-def put_together(rules, cuts, told):
-    """Enter for a picture the least costs by rules whose parts have fewer cells, or none."""
-    for rule in rules:
-        for way in rule.ways(cuts):
-            cost = cost_by(rule, way, told)
-            if cost is not None:
-                lower(told, (cuts.text, rule.name), cost)
+def put_together(grammar, numbers, cuts, told):
+    """Enter for a picture the least costs by rules, of these numbers, whose parts have fewer cells, or none."""
+    for cost, number, way in coming(grammar, numbers, cuts, told):
+        lower(told, (cuts.text, grammar.rule(number).name), cost)
 
 
 def lower(told, key, cost):

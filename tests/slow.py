@@ -133,6 +133,29 @@ def trees_up_to(grammar, most):
     return [tree for trees in found.values() for tree in trees]
 
 
+def place_in_row(grammar, tree, facts):
+    """What the trees of a row are ordered by, in the very words of promise 26.
+
+    Of each part the facts are (cost, picture).
+    """
+    parts = [place_in_row(grammar, part, facts) for part in tree[1:]]
+    if len(parts) == 2:
+        cost, picture = facts[tree[1]]
+        rule = grammar.rule(tree[0])
+        return (tree[0], len(picture[0]) if isinstance(rule, BesideRule) else len(picture), cost, *parts)
+    return (tree[0], *parts)
+
+
+def rows_by_words(grammar, most):
+    """The rows of trees up to a cost, by (name, rows, columns, cost), each in the order of promise 26."""
+    found = trees_up_to(grammar, most)
+    facts = {tree: (cost, picture) for _, cost, tree, picture in found}
+    rows = {}
+    for name, cost, tree, picture in found:
+        rows.setdefault((name, len(picture), len(picture[0]), cost), []).append(tree)
+    return {row: sorted(trees, key=lambda tree: place_in_row(grammar, tree, facts)) for row, trees in rows.items()}
+
+
 def coming(grammar, told, key):
     """The costs that come for a key (23), in the order of promise 24: (cost, number, part keys)."""
     text, name = key
