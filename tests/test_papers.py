@@ -128,6 +128,11 @@ class CostsTest(unittest.TestCase):
                 ("a", "A"): 7, ("b", "B"): 8, ("a" * 90, "S"): 9}
         self.told(EACH_KIND, told, ("ab", "S"), [17])
         self.told(EACH_KIND, told, ("a", "S"), [3, 12])
+        # A place is from 1 to below the end: nothing is parted into all and an empty rest.
+        rests = {(text, name): 1 for text in ("", "/", "//", "ab", "ab/ab", "a/b") for name in ("A", "B")}
+        for text in ("ab", "ab/ab", "a/b"):
+            self.told(EACH_KIND, {key: cost for key, cost in rests.items() if key[0] in ("", "/", "//", text)},
+                      (text, "S"), [])
 
     def test_names_without_a_rule(self):
         self.told(EACH_KIND, {("a", "A"): 1}, ("a", "B"), [])

@@ -13,7 +13,7 @@ from quiltlaw.rules import AboveRule, BesideRule, CellRule, Rule, TurnRule
 
 SIXTY = 10 ** 60 - 1
 NO_NAMES = ["", "ABCDE", "s", "Ss", "sS", "S1", "1", "0", " ", "S ", " S", "A B", "S\n", "\n", "S/", "@", "[",
-            "A" * 60, "\u00c4", "\u0391"]
+            "A" * 60, "\u00c4", "\u0391", *[chr(k) for k in range(32, 127) if not 65 <= k <= 90]]
 KINDS = (CellRule, BesideRule, AboveRule, TurnRule)
 BEHIND_COST = {CellRule: ("a",), BesideRule: ("A", "B"), AboveRule: ("A", "B"), TurnRule: ("A", 5)}
 
