@@ -16,13 +16,17 @@ def least_cost(grammar, picture, name=None):
 def table_of(grammar, picture):
     """The least costs by (text, name) of the pictures seen in a picture and the grammar's names."""
     told = {}
-    done = {}
+    enter_seen(grammar, picture, told, {})
+    return told
+
+
+def enter_seen(grammar, picture, told, done):
+    """Enter the least costs of all pictures seen in a picture, whose texts are then done, if they are not yet."""
     # The seen ones rise by cells, so what a picture can be parted into is done ahead of it.
     for seen in seen_in(picture):
         if shown(seen) not in done:
             for text in enter_turnings(grammar, seen, told):
                 done[text] = True
-    return told
 
 
 def enter_turnings(grammar, picture, told):

@@ -7,6 +7,12 @@ from quiltlaw.grammars import Grammar
 from quiltlaw.rules import AboveRule, BesideRule, CellRule, TurnRule
 from quiltlaw.texts import read_grammar
 
+def pictures_of_size(signs, rows, columns):
+    """All pictures of a size, rising."""
+    texts = ["".join(row) for row in itertools.product(sorted(signs), repeat=columns)]
+    return [list(rows) for rows in itertools.product(texts, repeat=rows)]
+
+
 LETTERS = "abcdefghijklmnopqrstuvwxyz"
 
 HEAD = "signs ab\nstart S\n"
@@ -26,8 +32,7 @@ GRAMMARS = {
                                   "S 9: A / B\nS 1: S | S",
 }
 # Every picture of at most two by two, and some of three.
-SMALL = [list(rows) for r, c in ((1, 1), (1, 2), (2, 1), (2, 2))
-         for rows in itertools.product(["".join(row) for row in itertools.product("ab", repeat=c)], repeat=r)]
+SMALL = [picture for size in ((1, 1), (1, 2), (2, 1), (2, 2)) for picture in pictures_of_size("ab", *size)]
 LARGER = [["aba"], ["a", "b", "b"], ["abb", "bab"], ["ab", "aa", "ba"], ["aab", "bab", "abb"], ["aaa", "aba", "aaa"]]
 
 
